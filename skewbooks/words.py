@@ -1,0 +1,15 @@
+"""Whole numbers and names, told apart from things of any kind."""
+
+LONGEST_NAME = 8
+
+
+def is_whole(thing):
+    """Whether the thing is an int that is no truth."""
+    return isinstance(thing, int) and not isinstance(thing, bool)
+
+
+def is_name(thing):
+    """Whether the thing is a text of one to eight small letters, a to z."""
+    if not isinstance(thing, str) or not 1 <= len(thing) <= LONGEST_NAME:
+        return False
+    return all(["a" <= sign <= "z" for sign in thing])
