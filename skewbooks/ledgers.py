@@ -4,6 +4,7 @@ Each thing's kind is asked ahead of its parts, and no part is compared or made
 a key before its own kind is sure: so things of any kind can be handed in.
 """
 
+from skewbooks.errors import NoRow
 from skewbooks.words import is_name, is_whole
 
 MOST_HOUSES = 6
@@ -116,6 +117,12 @@ def is_ledger(thing):
 def rows_of(ledger):
     """The names of all rows of the ledger, rising."""
     return tuple(sorted(row_names(ledger[0])))
+
+
+def need_row(ledger, thing):
+    """Refuse what names no row of the ledger."""
+    if not is_name(thing) or thing not in row_names(ledger[0]):
+        raise NoRow(thing)
 
 
 def names_each_row(ledger, thing):

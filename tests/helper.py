@@ -1,6 +1,11 @@
-"""What several tests share: a ledger with a bit of everything, and things of many kinds."""
+"""What several tests share: ledgers made by hand and by chance, all their placings, and things of many kinds."""
 
 import copy
+import itertools
+
+from skewbooks.bounds import leads
+from skewbooks.errors import NoPlacing, NoRow
+from skewbooks.ledgers import is_placing, rows_of
 
 
 class Odd:
@@ -86,3 +91,141 @@ def same_behind(test, deed, *things):
     test.assertEqual(first, second)
     test.assertEqual(repr(things), repr(before))
     return first
+
+
+def quarrels():
+    """Ledgers that quarrel, each with the words of the bounds that every ring of it with a sum of 1 or more has."""
+    far = 10 ** 6
+    wide = ("g", -far, far, 0, ((("x", 0), ("y", 10)),))
+    anew = ("g", -far, far, 0, ((("x", 0),), (("y", 0),)))
+    between = ("h", -far, far, 0, ((("p", 0),),))
+    return [
+        (("early", "late", "next"), one_house(0, 0, 0, (("x", 5),), (("y", 5),))),
+        (("early", "late", "next"), one_house(-1, 1, 9, (("x", 5),), (("y", 3),))),
+        (("early", "late", "least"), ((("g", 0, 0, 0, ((("a", 3),),)), ("h", 0, 0, 0, ((("b", 3),),))), (("a", "b", 1, 5),))),
+        (("early", "late", "most"), ((("g", 0, 0, 0, ((("a", 3),),)), ("h", 0, 0, 0, ((("b", 9),),))), (("a", "b", 1, 5),))),
+        (("slow", "most"), ((wide, between), (("p", "y", 1, 4), ("x", "p", 1, 5)))),
+        (("fast", "least"), ((wide, between), (("p", "y", 6, None), ("x", "p", 5, None)))),
+        (("next", "least"), ((anew, between), (("p", "x", 1, None), ("y", "p", 1, None)))),
+    ]
+
+
+def small_ledger(chance):
+    """A ledger of at most five rows in one to three houses, about as often with a placing as without."""
+    names = iter(chance.sample("abcdefgh", 8))
+    free = chance.choice([0, 1, 2, 3, 4, 4, 5, 5])
+    houses = []
+    for house in chance.sample(["k", "l", "m"], chance.choice([1, 2, 2, 3, 3])):
+        runs = []
+        for _ in range(chance.choice([0, 1, 1, 2])):
+            many = min(free, chance.randint(1, 3))
+            if many:
+                readings = sorted(chance.sample(range(-2, 5), many))
+                runs.append(tuple((next(names), reading) for reading in readings))
+                free -= many
+        low = chance.randint(-2, 1)
+        houses.append((house, low, low + chance.randint(0, 3), chance.randint(0, 2), tuple(runs)))
+    owners = {row: house[0] for house in houses for run in house[4] for row, _ in run}
+    letters = []
+    for pair in sorted(itertools.permutations(sorted(owners), 2)):
+        if owners[pair[0]] != owners[pair[1]] and chance.random() < 0.3:
+            least = chance.choice([1, 1, 2])
+            letters.append(pair + (least, chance.choice([None, None, least, least + 2])))
+    return (tuple(houses), tuple(letters))
+
+
+def all_placings(ledger):
+    """All placings of a small ledger, found by going through all moments that its clocks let be, one by one."""
+    spans = {
+        row: range(reading - high, reading - low + 1)
+        for _, low, high, _, runs in ledger[0] for run in runs for row, reading in run
+    }
+    names = rows_of(ledger)
+    tried = [tuple(zip(names, times)) for times in itertools.product(*[spans[name] for name in names])]
+    return [placing for placing in tried if is_placing(ledger, placing)]
+
+
+def full_ledger(chance, off=0, slack=3):
+    """A ledger of 24 rows in six houses and 24 letters that has a placing; all clocks are off by about so much."""
+    names = iter(chance.sample([a + b for a in "abcdef" for b in "uvwxyz"], 24))
+    houses, moments, owners = [], {}, {}
+    for house in chance.sample(["ha", "hb", "hc", "hd", "he", "hf"], 6):
+        moment, runs = chance.randint(0, 9), []
+        for many in chance.choice([(4,), (1, 3), (2, 2), (3, 1)]):
+            wrong, run = off + chance.randint(-slack, slack), []
+            for _ in range(many):
+                moment += chance.randint(2, 9)
+                row = next(names)
+                moments[row], owners[row] = moment, house
+                run.append((row, moment + wrong + chance.randint(0, 1)))
+            runs.append(tuple(run))
+        houses.append((house, off - slack, off + slack + 1, chance.randint(1, 2), tuple(runs)))
+    pairs = [
+        pair for pair in itertools.permutations(sorted(moments), 2)
+        if owners[pair[0]] != owners[pair[1]] and moments[pair[0]] < moments[pair[1]]
+    ]
+    letters = []
+    for sent, taken in sorted(chance.sample(pairs, 24)):
+        gap = moments[taken] - moments[sent]
+        letters.append((sent, taken, chance.randint(1, gap), chance.choice([None, gap, gap + slack])))
+    return (tuple(houses), tuple(letters))
+
+
+def full_quarrel(chance, off=0):
+    """A ledger of 24 rows and 24 letters that most likely quarrels: one letter of a full ledger goes too slowly."""
+    houses, letters = full_ledger(chance, off)
+    place = chance.randrange(24)
+    sent, taken, least, _ = letters[place]
+    return (houses, put(letters, (place,), (sent, taken, least + 60, None)))
+
+
+def keeping_moments(ledger, told):
+    """Moments for all rows of the ledger, and 0 for None, that keep to these (from, to, more), or None."""
+    moments = {place: 0 for place in (None,) + rows_of(ledger)}
+    for _ in range(len(moments) + 1):
+        if all(moments[end] - moments[start] >= more for start, end, more in told):
+            return {place: moment - moments[None] for place, moment in moments.items()}
+        for start, end, more in told:
+            moments[end] = max(moments[end], moments[start] + more)
+    return None
+
+
+def check_ring(test, ledger, ring):
+    """The ring is a bare one of the ledger's bounds with a sum of 1 or more, of which no bound can be spared."""
+    test.assertIsInstance(ring, tuple)
+    told = [leads(ledger, bound) for bound in ring]
+    test.assertEqual([start for start, _, _ in told], [told[-1][1]] + [end for _, end, _ in told[:-1]])
+    test.assertEqual(len({end for _, end, _ in told}), len(ring))
+    test.assertGreaterEqual(sum(more for _, _, more in told), 1)
+    test.assertIsNone(keeping_moments(ledger, told))
+    for place in range(len(told)):
+        others = told[:place] + told[place + 1:]
+        moments = keeping_moments(ledger, others)
+        test.assertIsNotNone(moments)
+        test.assertTrue(all(moments[end] - moments[start] >= more for start, end, more in others))
+
+
+def no_rows():
+    """Things of many kinds that name no row of any ledger here."""
+    return odd_things() + [0, 1, -1, 10 ** 9, "nobody", "abcdefghi", "X", "x ", ("x",), ["x"], {"x": 1}, b"x", "k", "g"]
+
+
+def refuses_quarrel(test, deed, ledger, *things):
+    """The deed refuses the ledger with NoPlacing, twice the same, and nothing is changed."""
+    before = copy.deepcopy(ledger)
+    rings = []
+    for _ in range(2):
+        with test.assertRaises(NoPlacing) as caught:
+            deed(ledger, *things)
+        rings.append(caught.exception.ring)
+        check_ring(test, ledger, caught.exception.ring)
+    test.assertEqual(rings[0], rings[1])
+    test.assertEqual(ledger, before)
+
+
+def refuses_row(test, deed, wrong, *things):
+    """The deed refuses these things with NoRow, its field name the very thing that is wrong."""
+    for _ in range(2):
+        with test.assertRaises(NoRow) as caught:
+            deed(*things)
+        test.assertIs(caught.exception.name, wrong)

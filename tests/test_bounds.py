@@ -4,7 +4,7 @@ import unittest
 from skewbooks.bounds import bounds_of, leads
 from skewbooks.errors import NoBound
 from skewbooks.ledgers import is_ledger, is_placing
-from tests.helper import Odd, big, odd_things, one_house, same_behind, two_rows
+from tests.helper import Odd, big, odd_things, one_house, same_behind, small_ledger, two_rows
 
 # Written out by hand from the ledger big().
 BIG = (
@@ -187,26 +187,6 @@ class TestLeads(unittest.TestCase):
         self.refuses(one_house(0, 1, 0, (("x", 1), ("y", 2))), ("slow", "x", "v"))
 
 
-def some_ledger(chance):
-    """A small ledger with two houses, drawn by the chance handed in."""
-    names = iter(chance.sample("abcdefgh", 8))
-    houses = []
-    for house in ("g", "h"):
-        runs = []
-        for _ in range(chance.randint(0, 2)):
-            readings = sorted(chance.sample(range(5), chance.randint(1, 2)))
-            runs.append(tuple((next(names), reading) for reading in readings))
-        low = chance.randint(-2, 1)
-        houses.append((house, low, low + chance.randint(0, 3), chance.randint(0, 2), tuple(runs)))
-    rows = [[name for run in house[4] for name, _ in run] for house in houses]
-    letters = []
-    for sent, taken in sorted((a, b) for a in rows[0] for b in rows[1]):
-        if chance.random() < 0.3:
-            least = chance.randint(1, 2)
-            letters.append((sent, taken, least, chance.choice([None, least, least + 2])))
-    return (tuple(houses), tuple(letters))
-
-
 def near_moments(chance, ledger):
     """A moment for each row, by which its clock is off by what is told, or by one beyond it."""
     return {
@@ -220,7 +200,7 @@ class TestBoundsTellAll(unittest.TestCase):
         chance = random.Random(7)
         seen = {True: 0, False: 0}
         for _ in range(300):
-            ledger = some_ledger(chance)
+            ledger = small_ledger(chance)
             self.assertTrue(is_ledger(ledger))
             told = [leads(ledger, bound) for bound in bounds_of(ledger)]
             for _ in range(40):
