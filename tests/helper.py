@@ -110,25 +110,24 @@ def quarrels():
     ]
 
 
-def small_ledger(chance):
-    """A ledger of at most five rows in one to three houses, about as often with a placing as without."""
-    names = iter(chance.sample("abcdefgh", 8))
-    free = chance.choice([0, 1, 2, 3, 4, 4, 5, 5])
+def small_ledger(chance, likely=0.3):
+    """A ledger of at most five rows in one to three houses, letters being so likely; often it quarrels."""
+    names = chance.sample("abcdefgh", chance.choice([0, 1, 2, 3, 4, 4, 5, 5]))
+    slots = [(house, run) for house in chance.sample(["k", "l", "m"], chance.choice([1, 2, 2, 3, 3])) for run in (0, 0, 1)]
+    rows = {slot: [] for slot in slots}
+    for name in names:
+        rows[chance.choice(slots)].append(name)
     houses = []
-    for house in chance.sample(["k", "l", "m"], chance.choice([1, 2, 2, 3, 3])):
-        runs = []
-        for _ in range(chance.choice([0, 1, 1, 2])):
-            many = min(free, chance.randint(1, 3))
-            if many:
-                readings = sorted(chance.sample(range(-2, 5), many))
-                runs.append(tuple((next(names), reading) for reading in readings))
-                free -= many
+    for house in dict.fromkeys(house for house, _ in slots):
+        runs = [rows[(house, run)] for run in (0, 1) if rows[(house, run)]]
         low = chance.randint(-2, 1)
-        houses.append((house, low, low + chance.randint(0, 3), chance.randint(0, 2), tuple(runs)))
-    owners = {row: house[0] for house in houses for run in house[4] for row, _ in run}
+        houses.append((house, low, low + chance.randint(0, 3), chance.randint(0, 2), tuple(
+            tuple(zip(run, sorted(chance.sample(range(-2, 5), len(run))))) for run in runs
+        )))
+    owners = {row: house for (house, _), some in rows.items() for row in some}
     letters = []
     for pair in sorted(itertools.permutations(sorted(owners), 2)):
-        if owners[pair[0]] != owners[pair[1]] and chance.random() < 0.3:
+        if owners[pair[0]] != owners[pair[1]] and chance.random() < likely:
             least = chance.choice([1, 1, 2])
             letters.append(pair + (least, chance.choice([None, None, least, least + 2])))
     return (tuple(houses), tuple(letters))

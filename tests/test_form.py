@@ -36,6 +36,10 @@ BARRED_NODES = (
 )
 
 
+WALKED = {"zip", "enumerate", "reversed", "range", "items", "keys", "values"}
+WALKERS = {"list", "tuple", "dict", "sorted", "sum", "any", "all", "enumerate", "zip", "min", "max"}
+
+
 def package_files():
     return sorted(name for name in os.listdir(PACKAGE) if name != "__pycache__")
 
@@ -81,6 +85,34 @@ def drawn_from(tree):
     """The files from which a file draws, with the names drawn."""
     rows = [node for node in tree.body if isinstance(node, ast.ImportFrom)]
     return [(row.module, [alias.name for alias in row.names]) for row in rows]
+
+
+def called(node):
+    """The name of what is called, of a function or of a method; None of what is no call."""
+    if not isinstance(node, ast.Call):
+        return None
+    return getattr(node.func, "id", getattr(node.func, "attr", None))
+
+
+def walked_at_once(tree):
+    """The nodes that are walked on the spot: by a loop, by a comprehension, or by what walks its first argument."""
+    nodes = []
+    for node in ast.walk(tree):
+        if isinstance(node, (ast.For, ast.comprehension)):
+            nodes.append(node.iter)
+        elif called(node) in WALKERS and isinstance(node.func, ast.Name):
+            nodes.extend(node.args[:1])
+        elif called(node) == "zip":
+            nodes.extend(node.args)
+        elif called(node) in ("len", "reversed"):
+            nodes.extend(arg for arg in node.args if called(arg) == "range")
+    return nodes
+
+
+def walked_names(tree):
+    """The places at which the file calls what is to be walked at once and doesn't."""
+    at_once = {id(node) for node in walked_at_once(tree)}
+    return [node.lineno for node in ast.walk(tree) if called(node) in WALKED and id(node) not in at_once]
 
 
 class TestForm(unittest.TestCase):
@@ -165,6 +197,18 @@ class TestForm(unittest.TestCase):
             for node in ast.walk(tree):
                 if isinstance(node, ast.Attribute):
                     self.assertIn(node.attr, METHODS | stored | methods, (name, node.lineno))
+
+    def test_walked_at_once(self):
+        for name, tree in trees().items():
+            self.assertEqual(walked_names(tree), [], name)
+        for kept in ("xs = zip(a, b)", "k in d.values()", "len(d.items())", "xs = [d.keys()]", "f(range(3))"):
+            self.assertEqual(walked_names(ast.parse(kept)), [1], kept)
+
+    def test_locals_are_not_called_like_imports_and_classes(self):
+        for name, tree in trees().items():
+            taken = [drawn for _, some in drawn_from(tree) for drawn in some]
+            taken.extend(node.name for node in tree.body if isinstance(node, ast.ClassDef))
+            self.assertEqual(sorted(set(taken)), sorted(bound for bound in bound_names(tree) if bound in taken), name)
 
     def test_imports(self):
         files = trees()

@@ -62,7 +62,7 @@ class TestMoments(unittest.TestCase):
         chance = random.Random(21)
         many = 0
         for _ in range(300):
-            ledger = small_ledger(chance)
+            ledger = small_ledger(chance, chance.choice([0.05, 0.3]))
             known = all_placings(ledger)
             if not known:
                 continue
