@@ -184,6 +184,19 @@ class TestTelling(unittest.TestCase):
         self.assertEqual(first, known)
         self.assertNotEqual(keeper.ledger(), known)
 
+    def test_what_is_handed_in_is_the_same_behind_it(self):
+        houses = copy.deepcopy(HOUSES)
+        keeper = Keeper(houses)
+        keeper.tell("ha", 0, "x", 1)
+        keeper.done("ha", 0, 5)
+        keeper.tell("ha", 0, "y", 2)
+        self.assertEqual(houses, HOUSES)
+        odd = [["ha"], {"x": []}]
+        for deed, things in ((Keeper, (odd,)), (keeper.tell, ("ha", 0, odd, odd)), (keeper.letter, (odd, "x", 1, odd)),
+                             (keeper.done, ("ha", odd, odd))):
+            self.assertIsNotNone(refusal(deed, *things))
+            self.assertEqual(odd, [["ha"], {"x": []}])
+
     def test_two_keepers_by_turns(self):
         chance = random.Random(64)
         one, other = full_ledger(chance), full_ledger(chance)
