@@ -54,6 +54,14 @@ def lead_table(ledger):
     return table
 
 
+def along_table(ledger, order):
+    """Each bound of the ledger, and each step ("along", I) of the order, with where it leads."""
+    table = lead_table(ledger)
+    for place, (row, later) in enumerate(zip(order, order[1:])):
+        table[("along", place)] = (row, later, 0)
+    return table
+
+
 def has_bound_form(thing):
     """Whether the thing is a tuple of texts and whole numbers alone."""
     # Only such a thing is looked up: a list can be no key, and True would be taken for the letter number 1.

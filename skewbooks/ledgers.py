@@ -119,10 +119,44 @@ def rows_of(ledger):
     return tuple(sorted(row_names(ledger[0])))
 
 
+def is_row(ledger, thing):
+    """Whether the thing names a row of the ledger."""
+    return is_name(thing) and thing in row_names(ledger[0])
+
+
 def need_row(ledger, thing):
     """Refuse what names no row of the ledger."""
-    if not is_name(thing) or thing not in row_names(ledger[0]):
+    if not is_row(ledger, thing):
         raise NoRow(thing)
+
+
+def is_order(ledger, thing):
+    """Whether the thing is a tuple of the names of all rows of the ledger, each once."""
+    if not isinstance(thing, tuple) or not all([is_name(row) for row in thing]):
+        return False
+    return tuple(sorted(thing)) == rows_of(ledger)
+
+
+def house_names(ledger):
+    """The names of all houses of the ledger, as they stand in it."""
+    return [house[0] for house in ledger[0]]
+
+
+def has_house(ledger, thing):
+    """Whether the thing names a house of the ledger."""
+    return is_name(thing) and thing in house_names(ledger)
+
+
+def off_by_more(ledger, name, more):
+    """The ledger with the clock of the house of this name off by so much more either way."""
+    houses, letters = ledger
+    widened = []
+    for house in houses:
+        low, high = house[1:3]
+        if house[0] == name:
+            low, high = low - more, high + more
+        widened.append((house[0], low, high) + house[3:])
+    return (tuple(widened), letters)
 
 
 def names_each_row(ledger, thing):

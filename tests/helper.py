@@ -189,6 +189,70 @@ def keeping_moments(ledger, told):
     return None
 
 
+def told_of(ledger):
+    """All that the ledger tells of its rows as (from, to, more), put down by other means than the program's."""
+    told = []
+    for _, low, high, drift, runs in ledger[0]:
+        rows = [row for run in runs for row in run]
+        for row, reading in rows:
+            told += [(None, row, reading - high), (row, None, low - reading)]
+        told += [(one, other, 1) for (one, _), (other, _) in zip(rows, rows[1:])]
+        for run in runs:
+            told += [(one, other, later - reading - drift) for one, reading in run for other, later in run if one != other]
+    for sent, taken, least, most in ledger[1]:
+        told += [(sent, taken, least)] + ([(taken, sent, -most)] if most is not None else [])
+    return told
+
+
+def can_keep(ledger, *told):
+    """Whether there is a placing of the ledger that keeps to these (from, to, more), too."""
+    return keeping_moments(ledger, told_of(ledger) + list(told)) is not None
+
+
+def wider(ledger, name, more):
+    """The ledger with the clock of a house off by so much more."""
+    return (tuple(
+        (house[0], house[1] - more, house[2] + more) + house[3:] if house[0] == name else house for house in ledger[0]
+    ), ledger[1])
+
+
+def is_span(ledger, start, end, low, high):
+    """Whether low and high are the least and the greatest by which the end can be later than the start."""
+    if not all(can_keep(ledger, (start, end, gap), (end, start, -gap)) for gap in (low, high)):
+        return False
+    return not can_keep(ledger, (end, start, 1 - low)) and not can_keep(ledger, (start, end, high + 1))
+
+
+def is_so(claim):
+    """Whether a claim in the right form is true, whatever its paper."""
+    word, ledger, *asked = claim
+    if word in ("placed", "quarrel"):
+        return can_keep(ledger) == (word == "placed")
+    if word == "moments":
+        return is_span(ledger, None, *asked)
+    if word == "apart":
+        return is_span(ledger, *asked)
+    if word in ("can", "can't"):
+        row, other, said = asked
+        told = {"ahead": [(row, other, 1)], "behind": [(other, row, 1)], "at once": [(row, other, 0), (other, row, 0)]}
+        return can_keep(ledger, *told[said]) == (word == "can")
+    if word in ("order", "no order"):
+        along = [(row, later, 0) for row, later in zip(asked[0], asked[0][1:])]
+        return can_keep(ledger, *along) == (word == "order")
+    if word == "mended":
+        house, more = asked
+        return can_keep(wider(ledger, house, more)) and (more == 0 or not can_keep(wider(ledger, house, more - 1)))
+    return not can_keep(wider(ledger, asked[0], 10 ** 15))
+
+
+def paths_in(thing):
+    """The ways to all parts of a nest of tuples, that to itself with them."""
+    ways = [()]
+    if isinstance(thing, tuple):
+        ways += [(place,) + way for place, part in enumerate(thing) for way in paths_in(part)]
+    return ways
+
+
 def check_ring(test, ledger, ring):
     """The ring is a bare one of the ledger's bounds with a sum of 1 or more, of which no bound can be spared."""
     test.assertIsInstance(ring, tuple)
