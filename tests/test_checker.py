@@ -538,12 +538,14 @@ class TestMended(Checked):
             self.refuses(("never", LOOP, house), LOOP_RING)
 
     def test_below_0(self):
-        # A clock off by less lets fewer placings be, and such a claim is none.
-        ledger = wider(CALM, "g", 5)
-        self.assertTrue(holds(("mended", ledger, "g", 0), (EARLY, None)))
-        for more in (-1, -5):
-            self.refuses(("mended", ledger, "g", more), (EARLY, None))
-            self.refuses(("mended", ledger, "g", more), (EARLY, RING))
+        # A clock off by 1 less still lets a placing be, and off by 2 less it would quarrel; but k is from 0 on.
+        ledger = one_house(-1, 1, 0, (("x", 5),))
+        placing, ring = (("x", 5),), (("early", "x"), ("late", "x"))
+        self.assertTrue(is_so(("placed", wider(ledger, "h", -1))) and not is_so(("placed", wider(ledger, "h", -2))))
+        self.takes(("mended", ledger, "h", 0), (placing, None))
+        for more in (-1, -2):
+            self.refuses(("mended", ledger, "h", more), (placing, ring))
+            self.refuses(("mended", ledger, "h", more), (placing, None))
 
     def test_great_numbers(self):
         far = 10 ** 9
