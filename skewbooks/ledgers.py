@@ -147,16 +147,15 @@ def has_house(ledger, thing):
     return is_name(thing) and thing in house_names(ledger)
 
 
+def widened(house, more):
+    """The house with its clock off by so much more either way."""
+    return house[:1] + (house[1] - more, house[2] + more) + house[3:]
+
+
 def off_by_more(ledger, name, more):
-    """The ledger with the clock of the house of this name off by so much more either way."""
+    """The ledger with the clock of the house of this name off by so much more."""
     houses, letters = ledger
-    widened = []
-    for house in houses:
-        low, high = house[1:3]
-        if house[0] == name:
-            low, high = low - more, high + more
-        widened.append((house[0], low, high) + house[3:])
-    return (tuple(widened), letters)
+    return (tuple([widened(house, more) if house[0] == name else house for house in houses]), letters)
 
 
 def names_each_row(ledger, thing):

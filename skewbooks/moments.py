@@ -2,7 +2,7 @@
 
 from skewbooks.bounds import lead_table
 from skewbooks.ledgers import need_row
-from skewbooks.settling import chain_back, placing_by, pushed
+from skewbooks.settling import chain_back, greatest_chain, placing_by, pushed
 
 
 def earliest(ledger):
@@ -31,10 +31,9 @@ def moments(ledger, row):
 
 def chain_to(ledger, row):
     """A chain from None to the row whose sum is its least moment."""
-    table = lead_table(ledger)
-    sums, last = pushed(table, {None: 0})
+    earliest(ledger)
     need_row(ledger, row)
-    return tuple(reversed(chain_back(table, last, row)))
+    return greatest_chain(lead_table(ledger), None, row)
 
 
 def chain_from(ledger, row):

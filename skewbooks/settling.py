@@ -56,6 +56,12 @@ def chain_back(table, last, place):
     return tuple(chain)
 
 
+def greatest_chain(table, start, end):
+    """A chain from the start to the end whose sum is the greatest; () from a place to itself."""
+    sums, last = pushed(table, {start: 0})
+    return tuple(reversed(chain_back(table, last, end)))
+
+
 def placing_by(table):
     """Of all moments that keep to the bounds of the table, which lead to each row from None, the least ones."""
     sums, last = pushed(table, {None: 0})

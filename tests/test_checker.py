@@ -8,7 +8,8 @@ from skewbooks.checker import holds
 from skewbooks.ledgers import is_ledger
 from skewbooks.settling import placed
 from tests.helper import (
-    all_placings, at, full_quarrel, is_so, nest, odd_things, one_house, paths_in, put, quarrels, same_behind, small_ledger,
+    all_placings, at, full_quarrel, is_so, nest, odd_things, one_house, paths_in, put, quarrels, same_behind,
+    small_ledger,
     two_rows, wider,
 )
 
@@ -41,7 +42,8 @@ def samples():
         (("moments", CALM, "x", 3, 5), (EARLY, (("early", "x"),), LATE, (("late", "x"),))),
         (("moments", CALM, "z", 6, 9), (EARLY, (("early", "z"),), LATE, (("late", "z"),))),
         (("apart", CALM, "x", "y", 2, 4), (
-            (("x", 4), ("y", 6), ("z", 6)), (("slow", "x", "y"),), (("x", 4), ("y", 8), ("z", 9)), (("fast", "x", "y"),),
+            (("x", 4), ("y", 6), ("z", 6)), (("slow", "x", "y"),), (("x", 4), ("y", 8), ("z", 9)),
+            (("fast", "x", "y"),),
         )),
         (("apart", CALM, "z", "y", -3, 2), (
             (("x", 3), ("y", 6), ("z", 9)), (("late", "z"), ("early", "y")), (("x", 4), ("y", 8), ("z", 6)),
@@ -173,7 +175,9 @@ class TestSamples(Checked):
     def test_another_name(self):
         for whole, path, spoilt in self.each_part(lambda part: part):
             if isinstance(at(whole, path), str):
-                for name in ("x", "y", "z", "g", "h", "w", "early", "late", "next", "slow", "fast", "least", "most", "along"):
+                for name in (
+                    "x", "y", "z", "g", "h", "w", "early", "late", "next", "slow", "fast", "least", "most", "along",
+                ):
                     if name != at(whole, path):
                         self.only_what_is_so(*put(whole, path, name))
 
@@ -187,15 +191,21 @@ class TestSamples(Checked):
 
     def test_another_word(self):
         for claim, paper in samples():
-            for word in ("placed", "quarrel", "moments", "apart", "can", "can't", "order", "no order", "mended", "never"):
+            for word in (
+                "placed", "quarrel", "moments", "apart", "can", "can't", "order", "no order", "mended", "never",
+            ):
                 if word != claim[0]:
                     self.refuses((word,) + claim[1:], paper)
-            for word in ("Placed", "cant", "cannot", "can not", "noorder", "no  order", "mend", "holds", claim[0] + "\n"):
+            for word in (
+                "Placed", "cant", "cannot", "can not", "noorder", "no  order", "mend", "holds", claim[0] + "\n",
+            ):
                 self.refuses((word,) + claim[1:], paper)
 
     def test_another_ledger(self):
         for claim, paper in samples():
-            for ledger in (CALM, TORN, LOOP, FALL, one_house(0, 0, 0), two_rows(1, 2), (), ((), ()), (CALM[0],), CALM + ((),)):
+            for ledger in (
+                CALM, TORN, LOOP, FALL, one_house(0, 0, 0), two_rows(1, 2), (), ((), ()), (CALM[0],), CALM + ((),),
+            ):
                 if ledger != claim[1]:
                     taken = self.only_what_is_so(claim[:1] + (ledger,) + claim[2:], paper)
                     self.assertFalse(taken, (claim, ledger))
@@ -437,7 +447,8 @@ class TestOrders(Checked):
     def test_what_is_no_order(self):
         wrong = [
             ("x", "y"), ("x", "y", "z", "z"), ("x", "y", "y"), ("x", "y", "w"), ("x", "y", "z", "w"), (), None, "xyz",
-            ["x", "y", "z"], {"x": 0, "y": 1, "z": 2}, (("x",), "y", "z"), ("x", "y", None), (0, 1, 2), ("x", "y", ["z"]),
+            ["x", "y", "z"], {"x": 0, "y": 1, "z": 2}, (("x",), "y", "z"), ("x", "y", None), (0, 1, 2),
+            ("x", "y", ["z"]),
         ]
         for order in wrong:
             self.refuses(("order", CALM, order), EARLY)
@@ -459,7 +470,8 @@ class TestOrders(Checked):
         self.takes(("no order", CALM, order), ring * 5)
         self.takes(("no order", CALM, order), (("least", 0), ("along", 1)))
         for step in (
-            ("along", True), ("along", False), ("along", -1), ("along", 2), ("along", 3), ("along", "0"), ("along", None),
+            ("along", True), ("along", False), ("along", -1), ("along", 2), ("along", 3), ("along", "0"),
+            ("along", None),
             ("along",), ("along", 0, 0), ["along", 0], ("Along", 0), ("along", (0,)), ("along", 10 ** 9), (0, "along"),
             "along", 0,
         ):

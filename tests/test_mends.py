@@ -6,7 +6,8 @@ from skewbooks.errors import NoHouse
 from skewbooks.ledgers import is_ledger, is_placing
 from skewbooks.mends import least_mend, mend
 from tests.helper import (
-    all_placings, big, can_keep, check_ring, full_ledger, full_quarrel, odd_things, one_house, put, quarrels, same_behind,
+    all_placings, big, can_keep, check_ring, full_ledger, full_quarrel, odd_things, one_house, put, quarrels,
+    same_behind,
     small_ledger, two_rows, wider,
 )
 

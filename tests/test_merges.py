@@ -155,7 +155,9 @@ class TestNoMerge(unittest.TestCase):
 
     def test_another_clock(self):
         one = ledger_of(house(("g", -5, 5, 2), (("x", 5),)))
-        for clock in (("g", -6, 5, 2), ("g", -4, 5, 2), ("g", -5, 6, 2), ("g", -5, 4, 2), ("g", -5, 5, 1), ("g", -5, 5, 3)):
+        for clock in (
+            ("g", -6, 5, 2), ("g", -4, 5, 2), ("g", -5, 6, 2), ("g", -5, 4, 2), ("g", -5, 5, 1), ("g", -5, 5, 3),
+        ):
             self.refuses(one, ledger_of(house(clock, (("x", 5),))))
             self.refuses(one, ledger_of(house(clock)))
             self.refuses(one, ledger_of(house(("h", 0, 0, 0)), house(clock, (("y", 7),))))
